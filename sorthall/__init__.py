@@ -1,0 +1,1 @@
+"""Sorthall: a hall of ways to put rows in order."""
