@@ -1,4 +1,4 @@
-"""The form of the package's files: what can be seen by machine of ../shared/LANGUAGE.md."""
+"""The form of the package's files: a part of ../shared/LANGUAGE.md (L13, L15, L19, L21 to L24 and L28 are not looked at)."""
 
 import ast
 import builtins
