@@ -1,4 +1,4 @@
-"""The form of the package's files: a part of ../shared/LANGUAGE.md (L13, L15, L19, L21 to L24 and L28 are not looked at)."""
+"""The form of the package's files: files, kinds of nodes, names (the rules on how names are used: form_rules.py)."""
 
 import ast
 import builtins
@@ -67,6 +67,8 @@ class Form(unittest.TestCase):
         for path in self.texts:
             self.assertRegex(path.name, r"^(__init__|__main__|[a-z][a-z0-9_]*)\.py$")
             self.assertTrue(path.stem.startswith("__") or not hasattr(builtins, path.stem), path)
+            self.assertNotRegex(path.stem, r"^(test|tests|testing|test_.*|site|conftest|sitecustomize|usercustomize)$")
+            self.assertIsNone(WORDS.search(path.stem), path)
 
     def test_signs_and_size(self):
         for path, text in self.texts.items():
