@@ -63,3 +63,62 @@ def filled(ahead, first, least, end):
         order = put_in(order, spot(ahead, order, place), place)
         place += 1
     return (found, order)
+
+
+class Refused(Exception):
+    """A model's own word for TooFar: the place."""
+
+
+def reach(ahead, many, wide):
+    """Point 26."""
+    order = []
+    for place in range(many):
+        rest = order[-wide:] if wide else []
+        head = order[:len(order) - len(rest)]
+        if head and ahead(place, head[-1]):
+            raise Refused(place)
+        order = head + put_in(rest, spot(ahead, rest, place), place)
+    return order
+
+
+def leap(ahead, order, first, place):
+    """Point 27: the 1st, 2nd, 4th and so on, then halving."""
+    those = order[first:]
+    last_ahead = 0
+    first_not = len(those) + 1
+    asked = 1
+    while asked <= len(those):
+        if not ahead(those[asked - 1], place):
+            first_not = asked
+            break
+        last_ahead = asked
+        asked *= 2
+    while first_not - last_ahead > 1:
+        # Numbers of the order, as the document counts them, are these less 1 plus first.
+        middle = (last_ahead - 1 + first + first_not - 1 + first) // 2 - first + 1
+        if ahead(those[middle - 1], place):
+            last_ahead = middle
+        else:
+            first_not = middle
+    return last_ahead
+
+
+def joined(ahead, left, right):
+    """Point 28: wins are kept as a text of l and r."""
+    left = list(left)
+    right = list(right)
+    told = []
+    wins = ""
+    while left and right:
+        wins += "l" if ahead(left[0], right[0]) else "r"
+        side, other = (left, right) if wins[-1] == "l" else (right, left)
+        told.append(side.pop(0))
+        if wins.endswith("llll") or wins.endswith("rrrr"):
+            wins = ""
+            if side:
+                found = leap(ahead, side, 0, other[0])
+                told += side[:found]
+                del side[:found]
+                if side:
+                    told.append(other.pop(0))
+    return told + left + right

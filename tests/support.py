@@ -1,5 +1,6 @@
 """What the test files share: rows, rules, and ways to look at what was told and asked."""
 
+import itertools
 import random
 import unittest
 
@@ -83,6 +84,12 @@ def wild_rules(seed=0):
         fickle(seed),
         fickle(seed + 1),
     ]
+
+
+def rows_and_rules(lengths, rules):
+    """Each row of these lengths with each rule."""
+    for many in lengths:
+        yield from itertools.product(some_rows(many), rules)
 
 
 def each_way_of_answers(run):

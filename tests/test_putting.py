@@ -3,23 +3,16 @@
 import itertools
 import unittest
 
+import bounds
 import models
 from sorthall.askers import Asker
 from sorthall.papers import shows
 from sorthall.putting import by_putting, by_walking, filled, spot_of
 from sorthall.rules import AskedRule
 from support import (
-    DOWN, UP, HallCase, each_way_of_answers, in_order, one_paper, order_rules, row_of, some_rows, wild_rules,
+    DOWN, UP, HallCase, each_way_of_answers, in_order, one_paper, order_rules, row_of,
+    rows_and_rules, wild_rules,
 )
-
-
-def putting_bound(many):
-    return sum(number.bit_length() for number in range(1, many))
-
-
-def rows_and_rules(lengths, rules):
-    for many in lengths:
-        yield from itertools.product(some_rows(many), rules)
 
 
 class Spot(HallCase):
@@ -116,7 +109,7 @@ class ByPutting(HallCase):
             self.whole_list(told)
             self.assertEqual(told, one_paper(row, rule))
             self.assertIs(shows(told, asker.answers()), True)
-            self.assertLessEqual(asker.asked, putting_bound(len(row)))
+            self.assertLessEqual(asker.asked, bounds.putting(len(row)))
             self.as_the_model(asker, told, lambda ahead: models.putting(ahead, len(row)))
 
     def test_each_short_row(self):
@@ -133,14 +126,14 @@ class ByPutting(HallCase):
         row = row_of(*[place * 89 % 300 for place in range(300)])
         asker = Asker(row, UP)
         self.assertEqual(by_putting(asker), one_paper(row, UP))
-        self.assertLessEqual(asker.asked, putting_bound(300))
+        self.assertLessEqual(asker.asked, bounds.putting(300))
 
     def test_whatever_is_told(self):
         for row, rule in rows_and_rules((1, 2, 7, 30), wild_rules()):
             asker = Asker(row, rule)
             told = by_putting(asker)
             self.each_once(told, range(len(row)))
-            self.assertLessEqual(asker.asked, putting_bound(len(row)))
+            self.assertLessEqual(asker.asked, bounds.putting(len(row)))
             self.as_the_model(asker, told, lambda ahead: models.putting(ahead, len(row)))
 
     def test_each_way_of_answers(self):
@@ -148,7 +141,7 @@ class ByPutting(HallCase):
             asker = Asker([None] * 6, rule)
             told = by_putting(asker)
             self.each_once(told, range(6))
-            self.assertLessEqual(asker.asked, putting_bound(6))
+            self.assertLessEqual(asker.asked, bounds.putting(6))
 
         each_way_of_answers(run)
 
