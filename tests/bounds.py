@@ -27,3 +27,20 @@ def blocks(order, left):
         else:
             lengths.append(1)
     return sum(length if length < 4 else 4 + max(1, 2 * (length - 4).bit_length()) for length in lengths[:-1])
+
+
+def laid_pile(many, lengths):
+    """Point 7: lengths are those of the stretches that a pile with least 1 lays."""
+    worth = 0
+    for length in lengths if len(lengths) > 1 else []:
+        times = 1
+        while 2 ** times * (length + 1) < 2 * many:
+            times += 1
+        worth += length * times
+    return many - 1 + worth + worth // 7
+
+
+def poured(pieces):
+    """Point 38."""
+    many = len(pieces)
+    return many - 1 + sum(map(len, pieces)) * (many - 1).bit_length() if pieces else 0
