@@ -278,3 +278,24 @@ def apart(ahead, left, right, parts):
     for (one, other), (next_one, next_other) in zip(cuts, cuts[1:]):
         told.append(joined(ahead, left[one:next_one], right[other:next_other]))
     return told
+
+
+def so_manieth(ahead, things, many):
+    """Points 43 and 44."""
+    last = many > things - 1 - many
+    tree = Meeting([[place] for place in range(things)])
+    end = -1 if last else 0
+
+    def better(p, q):
+        return ahead(p, q) != last
+
+    tree.hold(better, end)
+    taken = []
+    for turn in range(things - 1 - many if last else many):
+        place, piece = tree.went
+        taken.append(place)
+        piece.pop()
+        tree.hold(better, end, piece)
+    place = tree.went[0]
+    others = [other for other in range(things) if other not in [place, *taken]]
+    return (others, place, sorted(taken)) if last else (sorted(taken), place, others)
